@@ -1,0 +1,79 @@
+"""What the document says, written down once more in the plainest way, to compare with."""
+
+import itertools
+
+from windowpicks.rules import Rule
+
+
+def all_texts(letters, length):
+    return ["".join(text) for text in itertools.product("abcd"[:letters], repeat=length)]
+
+
+def offsets(rule):
+    return dict(zip(all_texts(rule.letters, rule.w + rule.k - 1), rule.table))
+
+
+def places(rule, text):
+    """The picked places, by looking each window up in the table."""
+    table = offsets(rule)
+    size = rule.w + rule.k - 1
+    found = []
+    for place in range(len(text)):
+        windows = [at for at in range(place + 1) if at + size <= len(text)]
+        if any(at + table[text[at:at + size]] == place for at in windows):
+            found.append(place)
+    return tuple(found)
+
+
+def sure_places(rule, text):
+    """The places of which all windows that can pick them stand in the text, in two lists."""
+    inner = range(rule.w - 1, len(text) - (rule.w + rule.k - 1) + 1)
+    there = places(rule, text)
+    return [at for at in inner if at in there], [at for at in inner if at not in there]
+
+
+def table_by_order(letters, w, k, order, last=False):
+    table = []
+    for window in all_texts(letters, w + k - 1):
+        pieces = [window[at:at + k] for at in range(w)]
+        first = next(piece for piece in order if piece in pieces)
+        equal = [at for at in range(w) if pieces[at] == first]
+        table.append(equal[-1] if last else equal[0])
+    return tuple(table)
+
+
+def all_rules(letters, w, k):
+    many = letters ** (w + k - 1)
+    return [Rule(letters, w, k, table) for table in itertools.product(range(w), repeat=many)]
+
+
+def some_rules(chance, letters, w, k, many):
+    size = letters ** (w + k - 1)
+    return [Rule(letters, w, k, [chance.randrange(w) for _ in range(size)]) for _ in range(many)]
+
+
+def some_text(chance, letters, length):
+    return "".join(chance.choice("abcd"[:letters]) for _ in range(length))
+
+
+def deep(value, depth):
+    for _ in range(depth):
+        value = [value]
+    return value
+
+
+def any_values():
+    """Values of all kinds that the document calls any value."""
+    rule = Rule(2, 2, 1, [0, 0, 1, 0])
+    return [
+        None, True, False, 0, 1, -1, 2, 10 ** 30, "", "a", "ab", "table", "\n", "\u00e4", "\u00b2", rule,
+        [], (), [rule], (None,), ["a", None], [["a"], "b"], [1, "a", (True, [rule])], deep("a", 8), deep((), 7),
+    ]
+
+
+# All sizes of rules with at most 256 windows.
+SIZES = [
+    (letters, w, k)
+    for letters in range(2, 5) for w in range(1, 6) for k in range(1, 5)
+    if letters ** (w + k - 1) <= 256
+]

@@ -1,0 +1,83 @@
+import ast
+import importlib
+import inspect
+import os
+import unittest
+
+ROOT = os.path.dirname(os.path.dirname(os.path.abspath(__file__)))
+
+# What the interface lists: the functions of each file with their parameters.
+FUNCTIONS = {
+    "rules": {"is_forward": ["rule"], "order_of": ["rule"]},
+    "picks": {
+        "picks": ["rule", "text"], "picked": ["rule", "text"], "is_picked": ["rule", "around"], "gap": ["rule"],
+    },
+}
+
+# The same for its classes, with the methods that stand in the class itself.
+CLASSES = {
+    "errors": {
+        "PickError": {},
+        "InvalidRule": {"__init__": ["self", "word"]},
+        "InvalidText": {"__init__": ["self", "at"]},
+        "InvalidLetters": {"__init__": ["self", "at"]},
+        "InvalidLot": {"__init__": ["self", "at"]},
+        "InvalidOrder": {},
+        "InvalidEdit": {},
+        "InvalidCommand": {},
+        "Refused": {"__init__": ["self", "at"]},
+    },
+    "rules": {
+        "Rule": {
+            "__init__": ["self", "letters", "w", "k", "table"],
+            "offset": ["self", "window"],
+            "turned": ["self"],
+            "by_order": ["cls", "letters", "w", "k", "order", "last"],
+            "read": ["cls", "text"],
+            "__eq__": ["self", "other"],
+            "__str__": ["self"],
+        },
+    },
+}
+
+
+def tree_of(name):
+    with open(os.path.join(ROOT, "windowpicks", name + ".py"), encoding="ascii") as file:
+        return ast.parse(file.read())
+
+
+def definitions(body, kind):
+    return {node.name: node for node in body if isinstance(node, kind)}
+
+
+def parameters(node):
+    return [argument.arg for argument in node.args.args]
+
+
+class Interface(unittest.TestCase):
+    def test_functions_stand_in_their_files(self):
+        for name, functions in FUNCTIONS.items():
+            found = definitions(tree_of(name).body, ast.FunctionDef)
+            for function, expected in functions.items():
+                self.assertEqual(parameters(found[function]), expected)
+                self.assertTrue(callable(getattr(importlib.import_module("windowpicks." + name), function)))
+
+    def test_classes_and_their_methods_stand_in_their_files(self):
+        for name, classes in CLASSES.items():
+            found = definitions(tree_of(name).body, ast.ClassDef)
+            for one, methods in classes.items():
+                own = definitions(found[one].body, ast.FunctionDef)
+                for method, expected in methods.items():
+                    self.assertEqual(parameters(own[method]), expected, (one, method))
+
+    def test_default_values_and_kinds(self):
+        from windowpicks.rules import Rule
+        self.assertIs(inspect.signature(Rule.by_order).parameters["last"].default, False)
+        self.assertIsInstance(inspect.getattr_static(Rule, "turned"), property)
+        self.assertIsInstance(inspect.getattr_static(Rule, "by_order"), classmethod)
+        self.assertIsInstance(inspect.getattr_static(Rule, "read"), classmethod)
+
+    def test_the_package_is_empty_but_for_a_docstring(self):
+        tree = tree_of("__init__")
+        self.assertEqual(len(tree.body), 1)
+        self.assertIsNotNone(ast.get_docstring(tree))

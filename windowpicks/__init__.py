@@ -1,0 +1,1 @@
+"""Windowpicks: places of a text that every window picks for itself."""
