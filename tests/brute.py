@@ -1,5 +1,6 @@
 """What the document says, written down once more in the plainest way, to compare with."""
 
+import fractions
 import itertools
 
 from windowpicks.rules import Rule
@@ -32,6 +33,41 @@ def sure_places(rule, text):
     return [at for at in inner if at in there], [at for at in inner if at not in there]
 
 
+def value(p, q):
+    """The value of a fraction."""
+    told = fractions.Fraction(p, q)
+    return told.numerator, told.denominator
+
+
+def is_above(one, other):
+    return fractions.Fraction(*one) > fractions.Fraction(*other)
+
+
+def is_picked_amid(rule, text):
+    """Whether the place w - 1 of a text of 2 w + k - 2 letters is picked."""
+    table = offsets(rule)
+    size = rule.w + rule.k - 1
+    return any(at + table[text[at:at + size]] == rule.w - 1 for at in range(rule.w))
+
+
+def repeated(rule, text):
+    """A text, with repetitions of it ahead and behind that are at least as long as a window; its beginning."""
+    ahead = text * ((rule.w + rule.k - 1) // len(text) + 1)
+    return ahead + text + ahead, len(ahead)
+
+
+def share(rule, text):
+    row, begin = repeated(rule, text)
+    amid = [at for at in places(rule, row) if begin <= at < begin + len(text)]
+    return value(len(amid), len(text))
+
+
+def is_free(k, text, lot):
+    """Whether a text has no piece of the lot if it is repeated."""
+    row = text * (k // len(text) + 2)
+    return not any(row[at:at + k] in lot for at in range(len(text)))
+
+
 def table_by_order(letters, w, k, order, last=False):
     table = []
     for window in all_texts(letters, w + k - 1):
@@ -56,6 +92,10 @@ def some_text(chance, letters, length):
     return "".join(chance.choice("abcd"[:letters]) for _ in range(length))
 
 
+def some_lot(chance, letters, k, many):
+    return chance.sample(all_texts(letters, k), many)
+
+
 def deep(value, depth):
     for _ in range(depth):
         value = [value]
@@ -77,3 +117,14 @@ SIZES = [
     for letters in range(2, 5) for w in range(1, 6) for k in range(1, 5)
     if letters ** (w + k - 1) <= 256
 ]
+
+
+def sizes_within(most, length):
+    """Those of them for which there are at most so many texts of the length that a function of w and k tells."""
+    return [(letters, w, k) for letters, w, k in SIZES if letters ** length(w, k) <= most]
+
+
+SHARE_SIZES = sizes_within(256, lambda w, k: 2 * w + k - 2)
+COMMON_SIZES = sizes_within(1100, lambda w, k: 3 * w + k - 3)
+NEAR_SIZES = sizes_within(1100, lambda w, k: 4 * w + 2 * k - 4)
+EDIT_SIZES = sizes_within(2100, lambda w, k: 4 * w + 2 * k - 5)

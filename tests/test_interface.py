@@ -12,7 +12,29 @@ FUNCTIONS = {
     "picks": {
         "picks": ["rule", "text"], "picked": ["rule", "text"], "is_picked": ["rule", "around"], "gap": ["rule"],
     },
+    "shares": {
+        "even_share": ["rule"],
+        "share": ["rule", "text"],
+        "greatest_share": ["rule", "lot"],
+        "least_share": ["rule", "lot"],
+        "ring": ["rule", "is_greatest", "lot"],
+        "heights": ["rule", "share", "is_greatest", "lot"],
+        "heights_hold": ["rule", "share", "is_greatest", "value", "lot"],
+    },
+    "common": {
+        "common": ["rule", "one", "other"],
+        "least_common": ["rule"],
+        "parted": ["rule", "t"],
+        "least_near": ["rule"],
+        "parted_near": ["rule", "t"],
+    },
+    "edits": {
+        "moved": ["rule", "text", "at", "letter"], "greatest_moved": ["rule"], "most_moved": ["rule"],
+    },
 }
+
+# The default values of the functions; all other parameters have none.
+DEFAULTS = {("shares", name, "lot"): () for name in "greatest_share least_share ring heights heights_hold".split()}
 
 # The same for its classes, with the methods that stand in the class itself.
 CLASSES = {
@@ -61,6 +83,14 @@ class Interface(unittest.TestCase):
             for function, expected in functions.items():
                 self.assertEqual(parameters(found[function]), expected)
                 self.assertTrue(callable(getattr(importlib.import_module("windowpicks." + name), function)))
+
+    def test_default_values_of_functions(self):
+        for name, functions in FUNCTIONS.items():
+            for function, expected in functions.items():
+                told = inspect.signature(getattr(importlib.import_module("windowpicks." + name), function)).parameters
+                for one in expected:
+                    default = DEFAULTS.get((name, function, one), inspect.Parameter.empty)
+                    self.assertEqual(told[one].default, default, (name, function, one))
 
     def test_classes_and_their_methods_stand_in_their_files(self):
         for name, classes in CLASSES.items():

@@ -1,14 +1,19 @@
 """Texts of letters, and the checks of arguments that the modules share."""
 
-from windowpicks.errors import InvalidLetters
+from windowpicks.errors import InvalidLetters, InvalidLot
 
 ALPHABET = "abcd"
 DIGITS = "0123456789"
 
 
+def is_integer(value):
+    """Return whether a value is an integer, and no bool."""
+    return isinstance(value, int) and not isinstance(value, bool)
+
+
 def is_between(value, low, high):
-    """Return whether a value is an integer, and no bool, from low to high."""
-    return isinstance(value, int) and not isinstance(value, bool) and low <= value <= high
+    """Return whether a value is an integer from low to high."""
+    return is_integer(value) and low <= value <= high
 
 
 def is_sequence(value):
@@ -57,3 +62,19 @@ def check_letters(letters, text):
     for at, letter in enumerate(text):
         if letter not in ALPHABET[:letters]:
             raise InvalidLetters(at)
+
+
+def is_text(letters, value):
+    """Return whether a value is a text of the first so many letters."""
+    return isinstance(value, str) and all([letter in ALPHABET[:letters] for letter in value])
+
+
+def check_lot(letters, k, lot):
+    """Raise InvalidLot for any value that is no sequence of different pieces of k letters."""
+    if not is_sequence(lot):
+        raise InvalidLot(0)
+    there = {}
+    for at, piece in enumerate(lot):
+        if not is_text(letters, piece) or len(piece) != k or piece in there:
+            raise InvalidLot(at)
+        there[piece] = True
