@@ -23,7 +23,7 @@ BUILTINS = set("""
 METHODS = set("""
     append clear copy count endswith extend find get index insert isalnum isalpha isdigit islower isspace isupper items
     join keys ljust lower lstrip partition pop remove replace reverse rfind rjust rpartition rsplit rstrip setdefault
-    split splitlines startswith strip update upper values zfill bit_length sort add discard __init__
+    split splitlines startswith strip update upper values zfill bit_length translate encode sort add discard __init__
 """.split())
 SPECIAL = set("__init__ __eq__ __repr__ __str__ __len__ __enter__ __exit__ __call__ __iter__".split())
 NOT_USED = set("""
@@ -31,6 +31,9 @@ NOT_USED = set("""
     copyright credits delattr dir eval exec exit gc getattr globals hasattr help id importlib license locals
     methodcaller os quit setattr type vars sys typing enum Enum Flag Generic Protocol ABC namedtuple
 """.split())
+
+# Without `_`, which a doctest that ran before may have left there.
+BUILT_IN = set(dir(builtins)) - {"_"}
 
 
 def files():
@@ -75,7 +78,7 @@ class Language(unittest.TestCase):
     def test_files(self):
         for name in files():
             self.assertRegex(name, r"\A[a-z_]+\.py\Z")
-            self.assertNotIn(name[:-3], NOT_USED | set(dir(builtins)))
+            self.assertNotIn(name[:-3], NOT_USED | BUILT_IN)
             text = text_of(name)
             self.assertRegex(text, r"\A[\n -~]*\Z", name)
             lines = text.split("\n")
@@ -147,7 +150,7 @@ class Language(unittest.TestCase):
             for bound in bound_names(tree):
                 self.assertNotIn(bound, NOT_USED, name)
                 if bound not in SPECIAL:
-                    self.assertNotIn(bound, dir(builtins), name)
+                    self.assertNotIn(bound, BUILT_IN, name)
                     self.assertTrue(re.fullmatch(r"_?[A-Za-z][A-Za-z0-9_]*|_", bound), (name, bound))
 
     def test_parameters_and_variables_are_no_imports_and_no_classes(self):
@@ -161,7 +164,7 @@ class Language(unittest.TestCase):
 
     def test_builtins(self):
         for name, node in self.nodes(ast.Name):
-            if node.id in dir(builtins):
+            if node.id in BUILT_IN:
                 self.assertIn(node.id, BUILTINS, (name, node.lineno))
 
     def test_methods_that_are_called(self):

@@ -1,19 +1,26 @@
 """The picked places of a text."""
 
-from windowpicks.texts import ALPHABET, check_letters, texts_of
+from windowpicks.masks import around_row, picked_mask
+from windowpicks.texts import check_letters, number_of
 
 
 def picks(rule, text):
     """Return the ascending tuple of the places that are picked from some window of a text."""
     check_letters(rule.letters, text)
+    table, letters, many = rule.table, rule.letters, len(rule.table)
     size = rule.w + rule.k - 1
-    places = [at + rule.offset(text[at:at + size]) for at in range(len(text) - size + 1)]
+    number = number_of(letters, text[:size - 1])
+    places = []
+    for at, code in enumerate(text[size - 1:].encode()):
+        number = (number * letters + code - 97) % many
+        places.append(at + table[number])
     return tuple(sorted(set(places)))
 
 
 def picked(rule, text):
     """Return the tuple of the pairs of a picked place and the piece there."""
-    return tuple([(place, text[place:place + rule.k]) for place in picks(rule, text)])
+    k = rule.k
+    return tuple([(place, text[place:place + k]) for place in picks(rule, text)])
 
 
 def is_picked(rule, around):
@@ -23,13 +30,15 @@ def is_picked(rule, around):
 
 def gap(rule):
     """Return the greatest distance from a picked place of an endless text to the next one."""
-    arounds = texts_of(rule.letters, 2 * rule.w + rule.k - 2)
-    is_there = {around: is_picked(rule, around) for around in arounds}
-    # A standing is what is known, at a place, of the letters around the next place.
-    standings = {around[1:]: True for around in arounds if is_there[around]}
-    distance = 0
-    while standings:
+    row = around_row(rule)
+    ahead, behind = rule.w - 1, 2 * rule.w + rule.k - 3
+    # The texts whose place `ahead` is picked, while those up to the distance behind it are not.
+    left = picked_mask(rule, row, ahead, behind)
+    distance = 1
+    while distance < rule.w:
+        left = left & ~picked_mask(rule, row, ahead + distance, behind - distance)
+        if left == 0:
+            return distance
         distance += 1
-        reached = [standing + letter for standing in standings for letter in ALPHABET[:rule.letters]]
-        standings = {around[1:]: True for around in reached if not is_there[around]}
-    return distance
+    # Each window has a pick.
+    return rule.w

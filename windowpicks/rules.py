@@ -1,7 +1,7 @@
 """Rules: each one tells which piece is picked from each window."""
 
 from windowpicks.errors import InvalidLetters, InvalidOrder, InvalidRule, InvalidText
-from windowpicks.texts import check_letters, count_of, is_between, is_decimal, is_digits, is_sequence
+from windowpicks.texts import check_letters, count_of, is_between, is_decimal, is_digits, is_order, is_sequence
 from windowpicks.texts import number_of, texts_of
 
 
@@ -21,12 +21,10 @@ class Rule:
     def by_order(cls, letters, w, k, order, last=False):
         """Return the rule that picks the piece that comes first in an order of all pieces."""
         _check_sizes(letters, w, k)
-        if not _is_order(letters, k, order):
+        if not is_order(letters, k, order):
             raise InvalidOrder()
         ranks = {piece: rank for rank, piece in enumerate(order)}
-        windows = texts_of(letters, w + k - 1)
-        table = [_least_offset(ranks, _pieces(window, w, k), last) for window in windows]
-        return cls(letters, w, k, table)
+        return cls(letters, w, k, _first_offsets(letters, w, [ranks[piece] for piece in texts_of(letters, k)], last))
 
     @classmethod
     def read(cls, text):
@@ -46,9 +44,8 @@ class Rule:
     @property
     def turned(self):
         """Return the rule that does in each text what this one does in the text read backwards."""
-        windows = texts_of(self.letters, self.w + self.k - 1)
-        table = [self.w - 1 - self.offset(window[::-1]) for window in windows]
-        return Rule(self.letters, self.w, self.k, table)
+        backwards = _numbers_backwards(self.letters, self.w + self.k - 1)
+        return Rule(self.letters, self.w, self.k, [self.w - 1 - self.table[number] for number in backwards])
 
     def __eq__(self, other):
         if not isinstance(other, Rule):
@@ -62,8 +59,12 @@ class Rule:
 
 def is_forward(rule):
     """Return whether no window picks an earlier place than the one that begins a place ahead."""
-    texts = texts_of(rule.letters, rule.w + rule.k)
-    return all([rule.offset(text[:-1]) <= rule.offset(text[1:]) + 1 for text in texts])
+    # The windows that begin a place ahead of the others, for each letter that comes next.
+    for letter in range(rule.letters):
+        onward = rule.table[letter::rule.letters] * rule.letters
+        if not all([at <= other + 1 for at, other in zip(rule.table, onward)]):
+            return False
+    return True
 
 
 def order_of(rule):
@@ -93,14 +94,9 @@ def _check_sizes(letters, w, k):
 def _is_table(letters, w, k, table):
     if not is_sequence(table) or len(table) != count_of(letters, w + k - 1):
         return False
-    return all([is_between(at, 0, w - 1) for at in table])
-
-
-def _is_order(letters, k, order):
-    # Values of different kinds cannot be sorted together.
-    if not is_sequence(order) or not all([isinstance(piece, str) for piece in order]):
-        return False
-    return sorted(order) == texts_of(letters, k)
+    # This is asked for each entry of each rule, so it stands here without a call.
+    wrong = [at for at in table if not isinstance(at, int) or at is True or at is False or not 0 <= at < w]
+    return len(wrong) == 0
 
 
 def _is_rule_text(text):
@@ -116,11 +112,26 @@ def _pieces(window, w, k):
     return [window[at:at + k] for at in range(w)]
 
 
-def _least_offset(ranks, pieces, last):
-    places = [ranks[piece] for piece in pieces]
-    if last:
-        return len(places) - 1 - places[::-1].index(min(places))
-    return places.index(min(places))
+def _first_offsets(letters, w, ranks, last):
+    """Return for each window the offset of the piece with the least rank, of equal ones the first (or last) one."""
+    # Counted from the end that is preferred: so the least key belongs to the piece that is picked.
+    marks = [w - 1 - at if last else at for at in range(w)]
+    keys = [rank * w + marks[0] for rank in ranks]
+    for at in range(1, w):
+        longer = [key for key in keys for _ in range(letters)]
+        news = [rank * w + marks[at] for rank in ranks] * count_of(letters, at)
+        keys = [key if key < new else new for key, new in zip(longer, news)]
+    return [marks[key % w] for key in keys]
+
+
+def _numbers_backwards(letters, length):
+    """Return for each text of this length the number of the text read backwards."""
+    numbers = [0]
+    many = 1
+    for _ in range(length):
+        numbers = [number + letter * many for number in numbers for letter in range(letters)]
+        many = many * letters
+    return numbers
 
 
 def _pieces_ahead(rule):

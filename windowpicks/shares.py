@@ -1,14 +1,15 @@
 """The shares of picked places: over all texts alike, of one text, the greatest and the least one.
 
 A *standing* is a text of 2 w + k - 3 letters: what is known, at a place of an endless text, of the
-letters around it. Each text of one letter more is a step, from the standing without its last letter
-to the one without its first letter.
+letters around it. Each text of one letter more is a step, and each step has the place of which it
+tells whether it is picked; see `rings`.
 """
 
 from math import gcd
 
-from windowpicks.picks import is_picked
-from windowpicks.texts import check_letters, check_lot, is_integer, texts_of
+from windowpicks.masks import around_row, spread
+from windowpicks.rings import are_settled, least_ring, settled_sums
+from windowpicks.texts import ALPHABET, check_letters, check_lot, count_of, is_integer, number_of
 
 
 def value_of(p, q):
@@ -19,17 +20,22 @@ def value_of(p, q):
 
 def even_share(rule):
     """Return the share of the texts around a place for which the place is picked."""
-    arounds = _steps(rule)
-    return value_of(len([around for around in arounds if is_picked(rule, around)]), len(arounds))
+    row = around_row(rule)
+    return value_of(row.count("1"), len(row))
 
 
 def share(rule, text):
     """Return the share of picked places of a text that is repeated without end."""
     check_letters(rule.letters, text)
+    many = len(rule.table)
     size = rule.w + rule.k - 1
     # The windows of one repetition reach into the following ones.
-    repeated = text + text * size
-    places = [(at + rule.offset(repeated[at:at + size])) % len(text) for at in range(len(text))]
+    repeated = text * (size // len(text) + 2)
+    number = number_of(rule.letters, repeated[:size - 1])
+    places = []
+    for at, code in enumerate(repeated[size - 1:size - 1 + len(text)].encode()):
+        number = (number * rule.letters + code - 97) % many
+        places.append((at + rule.table[number]) % len(text))
     return value_of(len(set(places)), len(text))
 
 
@@ -45,142 +51,82 @@ def least_share(rule, lot=()):
 
 def ring(rule, is_greatest, lot=()):
     """Return some text that has the greatest (or least) share, and no piece of a lot, or None."""
-    utmost = _utmost_share(rule, is_greatest, lot)
-    if utmost is None:
-        return None
-    worths = _worths(rule, utmost, is_greatest, lot)
-    sums = _greatest_sums(_standings(rule), worths)
-    # The sums rise by the worth of each step at least. Around the rings with the utmost share the
-    # worths come to 0, so there they rise by just that; and each such ring has this share.
-    return _some_ring([step for step in worths if sums[step[1:]] == sums[step[:-1]] + worths[step]])
+    found = _utmost_ring(rule, is_greatest, lot)
+    return None if found is None else found[0]
 
 
 def heights(rule, share, is_greatest, lot=()):
     """Return some paper that shows that no share is greater (or less) than this one, or None."""
-    check_lot(rule.letters, rule.k, lot)
-    standings = _standings(rule)
-    sums = _greatest_sums(standings, _worths(rule, share, is_greatest, lot))
+    pieces = check_lot(rule.letters, rule.k, lot)
+    p, q = share
+    many = count_of(rule.letters, 2 * rule.w + rule.k - 3)
+    # No place brings more than 1, or less than 0: so even heights show that.
+    if is_greatest and p >= q or not is_greatest and p <= 0:
+        return (0,) * many
+    # A ring with a step that is barred comes to more than 0, whatever its other steps are.
+    weights = _weights(rule, share, is_greatest, pieces, many * (abs(p) + q))
+    sums = settled_sums(rule.letters, weights)
     if sums is None:
         return None
-    return tuple([_sign(is_greatest) * sums[standing] for standing in standings])
+    return tuple(sums) if is_greatest else tuple([-total for total in sums])
 
 
 def heights_hold(rule, share, is_greatest, value, lot=()):
     """Return whether any value is a paper that shows that no share is greater (or less)."""
-    check_lot(rule.letters, rule.k, lot)
-    standings = _standings(rule)
-    if not isinstance(value, tuple) or len(value) != len(standings):
+    pieces = check_lot(rule.letters, rule.k, lot)
+    if not isinstance(value, tuple) or len(value) != count_of(rule.letters, 2 * rule.w + rule.k - 3):
         return False
     if not all([is_integer(height) for height in value]):
         return False
-    sums = {standing: _sign(is_greatest) * height for standing, height in zip(standings, value)}
-    worths = _worths(rule, share, is_greatest, lot)
-    return all([sums[step[1:]] >= sums[step[:-1]] + worths[step] for step in worths])
+    sums = list(value) if is_greatest else [-height for height in value]
+    # Of steps that are barred nothing is asked.
+    weights = _weights(rule, share, is_greatest, pieces, max(sums) - min(sums))
+    return are_settled(rule.letters, weights, sums)
 
 
-def _standings(rule):
-    return texts_of(rule.letters, 2 * rule.w + rule.k - 3)
+def _weights(rule, share, is_greatest, pieces, barred):
+    """Return the weight of each step: by how much, q times, it is on this side of a share p / q.
 
-
-def _steps(rule):
-    return texts_of(rule.letters, 2 * rule.w + rule.k - 2)
-
-
-def _sign(is_greatest):
-    # The least share is the greatest one if all shares are taken below 0.
-    return 1 if is_greatest else -1
-
-
-def _worths(rule, share, is_greatest, lot):
-    """Return for each step without a piece of a lot by how much, q times, it beats a share p / q."""
+    Steps with one of these pieces weigh what is told by `barred`.
+    """
     p, q = share
-    steps = [step for step in _steps(rule) if not any([piece in step for piece in lot])]
-    return {step: _sign(is_greatest) * (q * int(is_picked(rule, step)) - p) for step in steps}
+    there, other = (p - q, p) if is_greatest else (q - p, -p)
+    weights = [there if digit == "1" else other for digit in around_row(rule)[::-1]]
+    if not pieces:
+        return weights
+    return [barred if digit == "1" else weight for digit, weight in zip(_barred_row(rule, pieces)[::-1], weights)]
+
+
+def _barred_row(rule, pieces):
+    """Return the row of the steps that have one of these pieces."""
+    length = 2 * rule.w + rule.k - 2
+    there = {piece: True for piece in pieces}
+    row = "".join(["1" if piece in there else "0" for piece in range(count_of(rule.letters, rule.k))][::-1])
+    mask = 0
+    for ahead in range(length - rule.k + 1):
+        mask = mask | spread(rule.letters, row, ahead, length - rule.k - ahead)
+    return f"{mask:b}".zfill(count_of(rule.letters, length))
 
 
 def _utmost_share(rule, is_greatest, lot):
-    check_lot(rule.letters, rule.k, lot)
-    mean = _greatest_mean(_standings(rule), _worths(rule, (0, 1), is_greatest, lot))
-    if mean is None:
+    found = _utmost_ring(rule, is_greatest, lot)
+    return None if found is None else found[1]
+
+
+def _utmost_ring(rule, is_greatest, lot):
+    """Return some text that has the greatest (or least) share, and this share, or None."""
+    pieces = check_lot(rule.letters, rule.k, lot)
+    if is_greatest:
+        for letter in ALPHABET[:rule.letters]:
+            # All windows of a repeated letter are the same.
+            if number_of(rule.letters, letter * rule.k) not in pieces:
+                return letter, (1, 1)
+    many = count_of(rule.letters, 2 * rule.w + rule.k - 3)
+    weights = _weights(rule, (0, 1), is_greatest, pieces, 3 * many)
+    steps = least_ring(rule.letters, weights)
+    total = sum([weights[step] for step in steps])
+    # Without a step that is barred the mean is 1 at most, with one it is 2 at least.
+    if total > len(steps):
         return None
-    p, q = mean
-    return value_of(_sign(is_greatest) * p, q)
-
-
-def _greatest_mean(standings, worths):
-    """Return the greatest mean worth of the steps around a ring, as a pair, or None without a ring.
-
-    It is the greatest one, of all standings that end some walk of as many steps as there are
-    standings, of the least means of what the best such walk has more than each best shorter one
-    that ends there (a theorem of Karp's).
-    """
-    rows = [{standing: 0 for standing in standings}]
-    for _ in standings:
-        rows.append(_sums_a_step_on(rows[-1], worths))
-    means = [_least_mean(rows, standing) for standing in rows[-1]]
-    greatest = None
-    for mean in means:
-        if greatest is None or _is_less(greatest, mean):
-            greatest = mean
-    return greatest
-
-
-def _sums_a_step_on(sums, worths):
-    """Return the greatest sums of the walks of one step more, for each standing that ends one."""
-    onward = {}
-    for step in worths:
-        start, end = step[:-1], step[1:]
-        if start in sums:
-            total = sums[start] + worths[step]
-            onward[end] = max(onward.get(end, total), total)
-    return onward
-
-
-def _least_mean(rows, standing):
-    many = len(rows) - 1
-    least = None
-    # The end of a walk is the end of a walk of each lesser length, too: it stands in all rows.
-    for shorter in range(many):
-        mean = rows[many][standing] - rows[shorter][standing], many - shorter
-        if least is None or _is_less(mean, least):
-            least = mean
-    return least
-
-
-def _is_less(one, other):
-    return one[0] * other[1] < other[0] * one[1]
-
-
-def _greatest_sums(standings, worths):
-    """Return the greatest sum of the walks to each standing, or None if the sums grow without end."""
-    sums = {standing: 0 for standing in standings}
-    # Without a ring that brings more than 0 no best walk comes to a standing twice.
-    for _ in standings:
-        raised = False
-        for step in worths:
-            total = sums[step[:-1]] + worths[step]
-            if total > sums[step[1:]]:
-                sums[step[1:]] = total
-                raised = True
-        if not raised:
-            return sums
-    return None
-
-
-def _some_ring(steps):
-    """Return the last letters of the steps around some ring of these steps (there is one)."""
-    onward = {step[:-1]: step for step in steps}
-    many = 0
-    # Steps that lead to where no step goes on belong to no ring.
-    while len(onward) != many:
-        many = len(onward)
-        onward = {step[:-1]: step for step in steps if step[1:] in onward}
-    standing = min(list(onward))
-    for _ in range(many):
-        standing = onward[standing][1:]
-    text = ""
-    at = standing
-    while text == "" or at != standing:
-        text = text + onward[at][-1]
-        at = onward[at][1:]
-    return text
+    text = "".join([ALPHABET[step % rule.letters] for step in steps])
+    return text, value_of(abs(total), len(steps))

@@ -1,14 +1,18 @@
-"""Texts of letters, and the checks of arguments that the modules share."""
+"""Texts of letters, and the checks of arguments that the modules share.
+
+Among all texts of its length, ascending, a text has a *number*: its letters are the digits.
+"""
 
 from windowpicks.errors import InvalidLetters, InvalidLot
 
 ALPHABET = "abcd"
 DIGITS = "0123456789"
+DIGIT_OF = {97: "0", 98: "1", 99: "2", 100: "3"}
 
 
 def is_integer(value):
     """Return whether a value is an integer, and no bool."""
-    return isinstance(value, int) and not isinstance(value, bool)
+    return isinstance(value, int) and value is not True and value is not False
 
 
 def is_between(value, low, high):
@@ -48,33 +52,51 @@ def texts_of(letters, length):
 
 
 def number_of(letters, text):
-    """Return the index of a text among all texts of its length, ascending."""
-    number = 0
-    for letter in text:
-        number = number * letters + ALPHABET.find(letter)
-    return number
+    """Return the number of a text."""
+    return int("0" + text.translate(DIGIT_OF), letters)
+
+
+def text_of(letters, length, number):
+    """Return the text of this length with a number."""
+    text = ""
+    for _ in range(length):
+        text = ALPHABET[number % letters] + text
+        number = number // letters
+    return text
+
+
+def is_text(letters, value):
+    """Return whether a value is a text of the first so many letters."""
+    return isinstance(value, str) and sum([value.count(one) for one in ALPHABET[:letters]]) == len(value)
 
 
 def check_letters(letters, text):
     """Raise InvalidLetters for any value that is no text of the first so many letters."""
     if not isinstance(text, str):
         raise InvalidLetters(0)
-    for at, letter in enumerate(text):
-        if letter not in ALPHABET[:letters]:
-            raise InvalidLetters(at)
-
-
-def is_text(letters, value):
-    """Return whether a value is a text of the first so many letters."""
-    return isinstance(value, str) and all([letter in ALPHABET[:letters] for letter in value])
+    if not is_text(letters, text):
+        raise InvalidLetters(min([at for at, one in enumerate(text) if one not in ALPHABET[:letters]]))
 
 
 def check_lot(letters, k, lot):
-    """Raise InvalidLot for any value that is no sequence of different pieces of k letters."""
+    """Return the numbers of the pieces of a lot; raise InvalidLot for any value that is no lot."""
     if not is_sequence(lot):
         raise InvalidLot(0)
-    there = {}
+    if len(lot) == 0:
+        return []
+    left = {piece: number for number, piece in enumerate(texts_of(letters, k))}
+    numbers = []
     for at, piece in enumerate(lot):
-        if not is_text(letters, piece) or len(piece) != k or piece in there:
+        if not isinstance(piece, str) or piece not in left:
             raise InvalidLot(at)
-        there[piece] = True
+        # A piece that is told once more is not left.
+        numbers.append(left.pop(piece))
+    return numbers
+
+
+def is_order(letters, k, order):
+    """Return whether any value is a sequence of all pieces, each once."""
+    # Values of different kinds cannot be sorted together.
+    if not is_sequence(order) or not all([isinstance(piece, str) for piece in order]):
+        return False
+    return sorted(order) == texts_of(letters, k)
