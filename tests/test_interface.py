@@ -31,6 +31,33 @@ FUNCTIONS = {
     "edits": {
         "moved": ["rule", "text", "at", "letter"], "greatest_moved": ["rule"], "most_moved": ["rule"],
     },
+    "comparing": {"alike": ["p", "q"], "no_more": ["p", "q"], "parting": ["p", "q"]},
+    "lots": {
+        "meets_all": ["letters", "k", "lot"],
+        "longest_free": ["letters", "k", "lot"],
+        "free_text": ["letters", "k", "lot"],
+        "count_free": ["letters", "k", "lot", "length"],
+        "necklace": ["piece"],
+        "necklaces": ["letters", "k"],
+        "least_lot": ["letters", "k"],
+        "least_for": ["letters", "k", "length"],
+        "lot_for": ["letters", "k", "length"],
+        "rule_within": ["letters", "w", "k", "lot"],
+    },
+    "orders": {
+        "order_share": ["letters", "w", "k", "order"],
+        "best_share": ["letters", "w", "k"],
+        "best_order": ["letters", "w", "k"],
+        "cost": ["letters", "w", "k", "lot", "piece"],
+        "prices": ["letters", "w", "k", "share"],
+        "prices_hold": ["letters", "w", "k", "share", "value"],
+    },
+    "bounds": {"bound": ["letters", "w", "k"], "is_met": ["rule"], "best_rule": ["letters", "w", "k"]},
+    "telling": {
+        "texts_with": ["rule", "length", "told"],
+        "count_with": ["rule", "length", "told"],
+        "surely_shared": ["rule", "one", "other"],
+    },
 }
 
 # The default values of the functions; all other parameters have none.
@@ -60,6 +87,22 @@ CLASSES = {
             "__str__": ["self"],
         },
     },
+    "live": {
+        "Live": {
+            "__init__": ["self", "rule", "text"],
+            "rule": ["self"],
+            "text": ["self"],
+            "picks": ["self"],
+            "put": ["self", "at", "letters"],
+            "drop": ["self", "at", "many"],
+            "change": ["self", "at", "letter"],
+            "several": ["self", "edits"],
+            "undo": ["self"],
+            "within": ["self", "work"],
+            "__len__": ["self"],
+        },
+    },
+    "desk": {"Desk": {"__init__": ["self"], "say": ["self", "command"]}},
 }
 
 
@@ -106,6 +149,10 @@ class Interface(unittest.TestCase):
         self.assertIsInstance(inspect.getattr_static(Rule, "turned"), property)
         self.assertIsInstance(inspect.getattr_static(Rule, "by_order"), classmethod)
         self.assertIsInstance(inspect.getattr_static(Rule, "read"), classmethod)
+        from windowpicks.live import Live
+        self.assertEqual(inspect.signature(Live).parameters["text"].default, "")
+        for name in ("rule", "text", "picks"):
+            self.assertIsInstance(inspect.getattr_static(Live, name), property)
 
     def test_the_package_is_empty_but_for_a_docstring(self):
         tree = tree_of("__init__")
