@@ -111,6 +111,18 @@ def any_values():
     ]
 
 
+def wrong_pairs():
+    """Pairs of which one or both are no texts of two letters, behind the index that is told then."""
+    pairs = [
+        (2, "abc", "ab"), (2, "ab", "abc"), (2, "abc", "c"), (0, "c", "abc"), (3, "abbcab", "abd"), (1, "", "a\n"),
+        (1, "aA", ""), (299, "ab", "a" * 299 + "c"), (299, "a" * 299 + "d", "b"),
+    ]
+    for one in any_values() + [["a", "b"], b"ab"]:
+        if not isinstance(one, str):
+            pairs += [(0, one, "ab"), (0, one, "abc"), (0, one, one), (0, "ab", one), (0, "", one), (2, "abc", one)]
+    return pairs
+
+
 # All sizes of rules with at most 256 windows.
 SIZES = [
     (letters, w, k)

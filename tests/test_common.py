@@ -93,28 +93,11 @@ class Common(unittest.TestCase):
         rule = brute.some_rules(chance, 4, 3, 2, 1)[0]
         self.check(rule, brute.some_text(chance, 4, 300), brute.some_text(chance, 4, 150))
 
-    def wrong(self, at, one, other):
-        with self.assertRaises(InvalidLetters) as caught:
-            common(RULE, one, other)
-        self.assertEqual(caught.exception.at, at, (one, other))
-
     def test_wrong_letters(self):
-        self.wrong(2, "abc", "ab")
-        self.wrong(2, "ab", "abc")
-        self.wrong(2, "abc", "c")
-        self.wrong(0, "c", "abc")
-        self.wrong(3, "abbcab", "abd")
-        self.wrong(1, "", "a\n")
-        self.wrong(1, "aA", "")
-        self.wrong(299, "ab", "a" * 299 + "c")
-        for value in brute.any_values() + [["a", "b"], b"ab"]:
-            if not isinstance(value, str):
-                self.wrong(0, value, "ab")
-                self.wrong(0, value, "abc")
-                self.wrong(0, value, value)
-                self.wrong(0, "ab", value)
-                self.wrong(0, "", value)
-                self.wrong(2, "abc", value)
+        for at, one, other in brute.wrong_pairs():
+            with self.assertRaises(InvalidLetters) as caught:
+                common(RULE, one, other)
+            self.assertEqual(caught.exception.at, at, (one, other))
 
     def test_by_names_and_again(self):
         for _ in range(2):

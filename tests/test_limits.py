@@ -248,25 +248,22 @@ def is_parted(rule, t, is_near):
 
 
 class Common(unittest.TestCase):
+    def check(self, rule, least, pair_of, is_near):
+        self.assertFalse(is_parted(rule, least, is_near), str(rule))
+        self.assertIsNone(pair_of(rule, least))
+        if least > rule.k:
+            self.assertTrue(is_parted(rule, least - 1, is_near), str(rule))
+            self.assertIsNotNone(pair_of(rule, least - 1))
+
     def test_least_common(self):
         chance = random.Random(159)
         for rule in some_rules(chance, within(WIDE_COMMON, 1100, lambda w, k: 3 * w + k - 3)):
-            least = least_common(rule)
-            self.assertFalse(is_parted(rule, least, False), str(rule))
-            self.assertIsNone(parted(rule, least))
-            if least > rule.k:
-                self.assertTrue(is_parted(rule, least - 1, False), str(rule))
-                self.assertIsNotNone(parted(rule, least - 1))
+            self.check(rule, least_common(rule), parted, False)
 
     def test_least_near(self):
         chance = random.Random(160)
         for rule in some_rules(chance, [(2, 2, 3), (3, 2, 1), (2, 3, 1), (2, 2, 2), (3, 1, 3), (2, 1, 4), (4, 1, 2)]):
-            least = least_near(rule)
-            self.assertFalse(is_parted(rule, least, True), str(rule))
-            self.assertIsNone(parted_near(rule, least))
-            if least > rule.k:
-                self.assertTrue(is_parted(rule, least - 1, True), str(rule))
-                self.assertIsNotNone(parted_near(rule, least - 1))
+            self.check(rule, least_near(rule), parted_near, True)
 
 
 class Edits(unittest.TestCase):

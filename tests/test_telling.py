@@ -211,24 +211,11 @@ class SurelyShared(unittest.TestCase):
         self.assertEqual(surely_shared(LEX, "", ""), 0)
         self.assertEqual(surely_shared(LEX, "abab" * 75, "baba" * 75), 299)
 
-    def wrong(self, at, one, other):
-        with self.assertRaises(InvalidLetters) as caught:
-            surely_shared(RULE, one, other)
-        self.assertEqual(caught.exception.at, at, (one, other))
-
     def test_wrong_letters(self):
-        self.wrong(2, "abc", "ab")
-        self.wrong(2, "ab", "abc")
-        self.wrong(2, "abc", "c")
-        self.wrong(0, "c", "abc")
-        self.wrong(1, "", "a\n")
-        self.wrong(299, "a" * 299 + "d", "b")
-        for value in brute.any_values() + [["a", "b"], b"ab"]:
-            if not isinstance(value, str):
-                self.wrong(0, value, "ab")
-                self.wrong(0, "ab", value)
-                self.wrong(1, "ac", value)
-                self.wrong(0, value, "ac")
+        for at, one, other in brute.wrong_pairs():
+            with self.assertRaises(InvalidLetters) as caught:
+                surely_shared(RULE, one, other)
+            self.assertEqual(caught.exception.at, at, (one, other))
 
     def test_by_names_and_again(self):
         for _ in range(2):

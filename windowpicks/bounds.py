@@ -34,9 +34,9 @@ def best_rule(letters, w, k):
 class Search:
     """Goes through the tables of forward rules, but for those that surely are no better than the best one so far.
 
-    In a text of w + k letters the two windows of a forward rule pick the same place, or the text *parts*
-    them; the less texts do, the better is the rule. Of the texts of a necklace some must, and which
-    ones do is seen from two entries of the table.
+    The two windows of a text of w + k letters pick the same place, or it *parts* them: the fewer texts
+    do, the better is a forward rule. Which ones do is seen from two entries of the table; and of each
+    necklace (a *ring* of texts) there are some that do, whatever the table is.
     """
 
     def __init__(self, letters, w, k):
@@ -56,9 +56,9 @@ class Search:
             self.steps[max(ranks[begin], ranks[end])].append((begin, end, ring))
 
     def go_on(self, rank, fewest):
-        """Try all entries for the windows from this one on; `fewest` texts part at least what is there.
+        """Try all entries for the windows from this one on; return whether none better than what is found can be.
 
-        Return whether a rule is found than which there is no better one.
+        At least `fewest` texts part their windows, as far as the entries ahead of these tell.
         """
         if rank == len(self.windows):
             self.best = tuple(self.table)

@@ -33,7 +33,8 @@ def parted(rule, t):
 
 def least_near(rule):
     """Return the least length of stretches that surely have a common pick, one letter otherwise or none."""
-    t = rule.k
+    # Of fewer letters each piece has the one amid: if that is another one there, no piece is the same.
+    t = 2 * rule.k
     while _parted(rule, t, True) is not None:
         t += 1
     return t
@@ -106,8 +107,8 @@ def _some_near_pair(rule, t, sides, sure):
         unit = count_of(rule.letters, t - 1 - at)
         block = unit * rule.letters
         stretches = [
-            (one, other) for one in range(len(sure)) for other in range(one + unit, (one // block + 1) * block, unit)
-            if sure[one] & sure[other] & kept == 0]
+            (one, other) for first in range(0, len(sure), block) for one in range(first, first + block - unit)
+            for other in range(one + unit, first + block, unit) if sure[one] & sure[other] & kept == 0]
         pair = _some_pair(sides, stretches, kept)
         if pair is not None:
             return pair

@@ -139,16 +139,23 @@ def _ring_of(letters, k, endless):
 def _piece_of_necklace(first):
     """Return the piece that the least lot has of a necklace whose least piece is told.
 
-    Champarnaud, Hansel and Perrin (2004) showed that these meet all endless texts: the least piece is
-    a text as often as it goes, and fewer letters; the shortest such text that is less than all its
-    turned ones is taken, and the rest is put ahead.
+    Champarnaud, Hansel and Perrin (2004) showed that these pieces meet all endless texts: the least
+    one is some text as often as it goes, and fewer letters than that has; of such texts that are less
+    than all their turned ones the shortest is taken, and the fewer letters are put ahead.
     """
-    for size in range(1, len(first) + 1):
-        begin = first[:size]
-        end = size
-        while first[end:end + size] == begin:
-            end += size
-        turned = necklace(begin)
-        if len(first) - end < size and turned[0] == begin and len(turned) == size:
-            return first[end:] + first[:end]
-    return first
+    sizes = [size for size in range(1, len(first) + 1) if _is_part(first, size)]
+    end = _end_of_parts(first, min(sizes))
+    return first[end:] + first[:end]
+
+
+def _is_part(first, size):
+    turned = necklace(first[:size])
+    return len(turned) == size and turned[0] == first[:size] and len(first) - _end_of_parts(first, size) < size
+
+
+def _end_of_parts(first, size):
+    """Return where the first so many letters of a piece, as often as they go, end."""
+    end = size
+    while first[end:end + size] == first[:size]:
+        end += size
+    return end

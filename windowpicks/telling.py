@@ -65,18 +65,19 @@ def _a_letter_on(rule, ways, letters, told):
     `told` is the set of the places told, counted from the window that ends with this letter on, or
     None if no window ends there.
     """
+    table, many = rule.table, len(rule.table) // rule.letters
     onward = {}
     for (number, there), way in ways.items():
         for letter in letters:
             window = number * rule.letters + letter
             picked = there
             if told is not None:
-                picked = there | 1 << rule.table[window]
+                picked = there | 1 << table[window]
                 # Each place picked is told; and the first place here is not picked by a later window.
                 if picked & ~told or told & ~picked & 1:
                     continue
                 picked = picked >> 1
             more = way if isinstance(way, int) else [text + ALPHABET[letter] for text in way]
-            state = window % (len(rule.table) // rule.letters), picked
+            state = window % many, picked
             onward[state] = onward[state] + more if state in onward else more
     return onward

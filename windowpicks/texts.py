@@ -67,15 +67,17 @@ def text_of(letters, length, number):
 
 def is_text(letters, value):
     """Return whether a value is a text of the first so many letters."""
-    return isinstance(value, str) and sum([value.count(one) for one in ALPHABET[:letters]]) == len(value)
+    return isinstance(value, str) and value.strip(ALPHABET[:letters]) == ""
 
 
 def check_letters(letters, text):
     """Raise InvalidLetters for any value that is no text of the first so many letters."""
     if not isinstance(text, str):
         raise InvalidLetters(0)
-    if not is_text(letters, text):
-        raise InvalidLetters(min([at for at, one in enumerate(text) if one not in ALPHABET[:letters]]))
+    # Only letters of the alphabet are taken off, so the rest begins with the first other character.
+    rest = text.lstrip(ALPHABET[:letters])
+    if rest != "":
+        raise InvalidLetters(len(text) - len(rest))
 
 
 def check_lot(letters, k, lot):
